@@ -1,0 +1,1 @@
+"""Allhelms: all controllers that steady a machine, and what none of them can."""

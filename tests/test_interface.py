@@ -1,0 +1,43 @@
+"""The interface: each name stands in its file, with the names of its parameters, in their order."""
+
+import importlib
+import inspect
+import pathlib
+import unittest
+
+import allhelms
+
+INTERFACE = {
+    "rows": {"is_row": "value", "value_at": "row fraction", "row_sum": "row other", "row_less": "row other",
+             "row_product": "row other", "parted": "row other", "divides": "row other",
+             "common_divisor": "row other", "cofactors": "row other"},
+    "steady": {"is_steady": "row", "bends_of": "row", "is_quick": "row fraction", "row_of": "bends"},
+    "answers": {"is_answer": "value", "answer_of": "row other", "first_numbers": "answer number",
+                "answer_sum": "answer other", "answer_product": "answer other",
+                "answer_over": "answer other", "dies_out": "answer", "whole_sum": "answer"},
+}
+
+
+class Interface(unittest.TestCase):
+
+    def test_functions(self):
+        for file, functions in INTERFACE.items():
+            module = importlib.import_module("allhelms." + file)
+            for name, parameters in functions.items():
+                with self.subTest(file=file, name=name):
+                    function = getattr(module, name)
+                    self.assertTrue(inspect.isfunction(function))
+                    self.assertEqual(function.__module__, "allhelms." + file)
+                    told = inspect.signature(function).parameters.values()
+                    self.assertEqual([parameter.name for parameter in told], parameters.split())
+                    for parameter in told:
+                        self.assertIs(parameter.kind, inspect.Parameter.POSITIONAL_OR_KEYWORD)
+                        self.assertIs(parameter.default, inspect.Parameter.empty)
+
+    def test_the_package_is_this_one(self):
+        folder = pathlib.Path(__file__).resolve().parent.parent / "allhelms"
+        self.assertEqual(pathlib.Path(allhelms.__file__).resolve().parent, folder)
+
+
+if __name__ == "__main__":
+    unittest.main()
