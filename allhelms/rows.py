@@ -30,6 +30,12 @@ def check_filled_row(given):
         raise InvalidRow(given)
 
 
+def check_led_row(given):
+    """Raise InvalidRow for no led row."""
+    if not is_row(given) or not is_led(given):
+        raise InvalidRow(given)
+
+
 def check_two_rows(row, other):
     """Raise InvalidRow for what is no row, and for the other one if both are ()."""
     check_row(row)

@@ -9,6 +9,7 @@ from math import gcd, lcm
 from allhelms.ratios import NIL, ONE, ratio, ratio_less, ratio_over, ratio_product, ratio_sum
 
 UNIT = ((1, 1),)
+PRIME = 2305843009213693951
 
 
 def without_end(numbers, nought):
@@ -156,10 +157,38 @@ def first_fraction(row):
     return NIL
 
 
+def rest_by_prime(numbers, by):
+    """The rest of some numbers, each times the same one, by others; all but for multiples of the prime."""
+    rest = list(numbers)
+    top = by[-1]
+    while len(rest) >= len(by):
+        last = rest.pop()
+        ahead = len(rest) + 1 - len(by)
+        rest = [top * x for x in rest]
+        for i in range(len(by) - 1):
+            rest[ahead + i] -= last * by[i]
+        rest = without_end([x % PRIME for x in rest], 0)
+    return rest
+
+
+def surely_apart(first, second):
+    """True only for rows of whole numbers, not empty, without a common divisor above the degree 0."""
+    ours, theirs = [x % PRIME for x in first], [x % PRIME for x in second]
+    # A common divisor would stay one of the same degree, if the last numbers stay.
+    if ours[-1] == 0 or theirs[-1] == 0:
+        return False
+    while len(theirs) > 1:
+        ours, theirs = theirs, rest_by_prime(ours, theirs)
+    return len(theirs) == 1
+
+
 def shared_part(row, other):
     """The common divisor of two rows, not both ()."""
     first = primitive(cleared(row)[0])
     second = primitive(cleared(other)[0])
+    # Most rows have none, and this is seen far sooner than by their own numbers, which grow long.
+    if len(first) > 0 and len(second) > 0 and surely_apart(first, second):
+        return UNIT
     while len(second) > 0:
         rest = whole_split(first, second)[1]
         first, second = second, primitive(rest)

@@ -20,12 +20,51 @@ STAGE_ONE = """
 [(((1, 1),), ((1, 1), (-1, 2))), ((1, 1), (1, 2), (1, 4), (1, 8)), (((1, 1),), ((1, 1),)), True, False, (2, 1), (((1, 1), (-2, 1)), ((1, 1), (-1, 2))), (((2, 1),), ((1, 1), (-1, 2))), False]
 """
 
+STAGE_TWO = """
+>>> from allhelms.machines import can_be_steadied, core_of, hidden_part, is_helm, is_machine, same_helm, size_of
+>>> nil, half, one, two, less = (0, 1), (1, 2), (1, 1), (2, 1), (-1, 1)
+>>> cart, back, stuck = ((nil, one), (one, (-2, 1))), ((nil, one, (-2, 1)), (one, less)), ((nil, one, (-2, 1)), (one, (-2, 1)))
+>>> [is_machine(cart), is_machine(((one,), (one,))), size_of(back), hidden_part(cart), hidden_part(stuck), core_of(stuck), can_be_steadied(cart), can_be_steadied(stuck)]
+[True, False, 2, ((1, 1),), ((1, 1), (-2, 1)), (((0, 1), (1, 1)), ((1, 1),)), True, False]
+>>> hand, idle = ((two,), (one,)), ((), (one,))
+>>> [is_helm(hand), is_helm(idle), same_helm(hand, ((two, less), (one, (-1, 2)))), same_helm(hand, idle)]
+[True, True, True, False]
+>>> from allhelms.loops import closing_row, fewest_beats, four_answers, is_steady_loop, last_beat, running_start, shown
+>>> [closing_row(cart, hand), closing_row(cart, idle), is_steady_loop(cart, hand), is_steady_loop(cart, idle), running_start(cart, hand), running_start(cart, idle)[1]]
+[((1, 1),), ((1, 1), (-2, 1)), True, False, None, ()]
+>>> four_answers(cart, hand)
+((((0, 1), (2, 1)), ((1, 1),)), (((2, 1), (-4, 1)), ((1, 1),)), (((0, 1), (1, 1)), ((1, 1),)), (((0, 1), (-2, 1)), ((1, 1),)))
+>>> step, silent = ((one,), (one, less)), ((), (one,))
+>>> [shown(cart, hand, step, silent, (), ()), shown(cart, hand, silent, silent, (one,), ()), last_beat(cart, hand), last_beat(cart, idle), fewest_beats(cart), fewest_beats(back), fewest_beats(stuck)]
+[((((0, 1), (2, 1)), ((1, 1), (-1, 1))), (((2, 1), (-4, 1)), ((1, 1), (-1, 1)))), ((((1, 1),), ((1, 1),)), (((-2, 1),), ((1, 1),))), 1, None, 1, 3, None]
+>>> from allhelms.helms import base_helm, free_answer, helm_of, is_steady_helm, least_helm
+>>> sure = helm_of(cart, ((one,), (one,)))
+>>> [base_helm(cart), base_helm(back), sure, free_answer(cart, sure), free_answer(cart, hand), is_steady_helm(sure), least_helm(cart, (one, (-1, 2))), least_helm(stuck, (one,))]
+[(((2, 1),), ((1, 1),)), (((-1, 1),), ((1, 1), (2, 1))), (((3, 1), (-2, 1)), ((1, 1), (-1, 1))), (((1, 1),), ((1, 1),)), ((), ((1, 1),)), False, (((3, 2),), ((1, 1),)), None]
+>>> base_helm(stuck)
+raises NoHelm()
+>>> free_answer(cart, idle)
+raises NotSteady()
+>>> from allhelms.rules import can_follow, follows, following_helm, rule_left, unfollowed_start
+>>> keep, deaf = (one, less), ((nil, one, less), (one, (-2, 1)))
+>>> [follows(cart, hand, keep), follows(cart, sure, keep), unfollowed_start(cart, hand, keep) == (), unfollowed_start(cart, sure, keep), can_follow(cart, keep), can_follow(deaf, keep), following_helm(deaf, keep)]
+[False, True, False, None, True, False, None]
+>>> [rule_left(cart, keep), rule_left(back, keep), follows(back, base_helm(back), keep), can_follow(stuck, keep)]
+[((1, 1), (-1, 1)), ((1, 1),), True, False]
+>>> follows(cart, idle, keep)
+raises NotSteady()
+"""
+
 
 class Examples(unittest.TestCase):
 
+    def setUp(self):
+        # Later examples speak of what earlier ones name.
+        self.names = {}
+
     def follow(self, text):
         """Run the lines behind `>>>`; the line behind each list or call is its answer."""
-        names = {}
+        names = self.names
         lines = [line for line in text.split("\n") if line]
         for at, line in enumerate(lines):
             if not line.startswith(">>> "):
@@ -48,8 +87,9 @@ class Examples(unittest.TestCase):
         self.assertIs(type(caught.exception), type(told))
         self.assertEqual(vars(caught.exception), vars(told))
 
-    def test_stage_one(self):
-        self.follow(STAGE_ONE)
+    def test_examples(self):
+        for text in (STAGE_ONE, STAGE_TWO):
+            self.follow(text)
 
 
 if __name__ == "__main__":

@@ -15,6 +15,16 @@ INTERFACE = {
     "answers": {"is_answer": "value", "answer_of": "row other", "first_numbers": "answer number",
                 "answer_sum": "answer other", "answer_product": "answer other",
                 "answer_over": "answer other", "dies_out": "answer", "whole_sum": "answer"},
+    "machines": {"is_machine": "value", "is_helm": "value", "size_of": "machine", "helm_size": "helm",
+                 "hidden_part": "machine", "core_of": "machine", "can_be_steadied": "machine",
+                 "same_helm": "helm other"},
+    "loops": {"closing_row": "machine helm", "is_steady_loop": "machine helm", "four_answers": "machine helm",
+              "shown": "machine helm goal push start turn", "running_start": "machine helm",
+              "last_beat": "machine helm", "fewest_beats": "machine"},
+    "helms": {"base_helm": "machine", "helm_of": "machine free", "free_answer": "machine helm",
+              "least_helm": "machine wished", "is_steady_helm": "helm"},
+    "rules": {"follows": "machine helm rule", "unfollowed_start": "machine helm rule",
+              "can_follow": "machine rule", "following_helm": "machine rule", "rule_left": "machine rule"},
 }
 
 
