@@ -9,7 +9,6 @@ from math import gcd, lcm
 from allhelms.ratios import NIL, ONE, ratio, ratio_less, ratio_over, ratio_product, ratio_sum
 
 UNIT = ((1, 1),)
-PRIME = 2305843009213693951
 
 
 def without_end(numbers, nought):
@@ -157,42 +156,52 @@ def first_fraction(row):
     return NIL
 
 
-def rest_by_prime(numbers, by):
-    """The rest of some numbers, each times the same one, by others; all but for multiples of the prime."""
-    rest = list(numbers)
-    top = by[-1]
-    while len(rest) >= len(by):
-        last = rest.pop()
-        ahead = len(rest) + 1 - len(by)
-        rest = [top * x for x in rest]
-        for i in range(len(by) - 1):
-            rest[ahead + i] -= last * by[i]
-        rest = without_end([x % PRIME for x in rest], 0)
-    return rest
+def whole_worth(numbers, at):
+    """The worth of a row of whole numbers at a whole number."""
+    worth = 0
+    for number in reversed(numbers):
+        worth = worth * at + number
+    return worth
 
 
-def surely_apart(first, second):
-    """True only for rows of whole numbers, not empty, without a common divisor above the degree 0."""
-    ours, theirs = [x % PRIME for x in first], [x % PRIME for x in second]
-    # A common divisor would stay one of the same degree, if the last numbers stay.
-    if ours[-1] == 0 or theirs[-1] == 0:
-        return False
-    while len(theirs) > 1:
-        ours, theirs = theirs, rest_by_prime(ours, theirs)
-    return len(theirs) == 1
+def whole_digits(worth, at):
+    """The row of whole numbers, none of a size above at / 2, with this worth at a number above 2."""
+    numbers = []
+    while worth != 0:
+        last = worth % at
+        if 2 * last > at:
+            last -= at
+        numbers.append(last)
+        worth = (worth - last) // at
+    return numbers
+
+
+def goes_into(by, numbers):
+    """Whether one row of whole numbers divides another one."""
+    return without_end(whole_split(numbers, by)[1], 0) == []
+
+
+def whole_shared(first, second):
+    """The common divisor, as `primitive` tells it, of two rows of whole numbers told so, too."""
+    at = 2 * min(max([abs(x) for x in first]), max([abs(x) for x in second])) + 3
+    while True:
+        # The worth of what divides both divides both worths. If the row found divides both, it is all
+        # that does: the worth of a row that it lacks would divide the number that `primitive` takes
+        # away, which is at most at / 2; but as its zeros are all of a size below at / 2 - 1 / 2, it is
+        # worth more.
+        found = primitive(whole_digits(gcd(whole_worth(first, at), whole_worth(second, at)), at))
+        if goes_into(found, first) and goes_into(found, second):
+            return found
+        # What else both worths have in common is bounded, so this comes to an end.
+        at = at * at
 
 
 def shared_part(row, other):
     """The common divisor of two rows, not both ()."""
     first = primitive(cleared(row)[0])
     second = primitive(cleared(other)[0])
-    # Most rows have none, and this is seen far sooner than by their own numbers, which grow long.
-    if len(first) > 0 and len(second) > 0 and surely_apart(first, second):
-        return UNIT
-    while len(second) > 0:
-        rest = whole_split(first, second)[1]
-        first, second = second, primitive(rest)
-    found = row_over(first, 1)
+    whole = whole_shared(first, second) if first != [] and second != [] else first + second
+    found = row_over(whole, 1)
     return scaled(found, ratio_over(ONE, first_fraction(found)))
 
 

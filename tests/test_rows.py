@@ -2,11 +2,11 @@
 
 import unittest
 from fractions import Fraction
+from itertools import product
 
 from allhelms.errors import InvalidFraction, InvalidRow
 from allhelms.rows import (cofactors, common_divisor, divides, is_row, parted, row_less, row_product,
                            row_sum, value_at)
-from allhelms.sums import PRIME, surely_apart
 from tests.checks import ErrorCase
 from tests.tools import (NIL, NO_FRACTIONS, NO_ROWS, ONE, SLOW, SPRING, WILD, degree, is_plain_row,
                          led_by_first, pair, plain, plain_product, plain_sum, plain_worth, row, some_rows)
@@ -198,41 +198,21 @@ class Divisors(unittest.TestCase):
         self.assertEqual(parted(plain_product(one, part), one), (part, ()))
         self.assertEqual(value_at(one, (10 ** 40, 3)), pair(plain_worth(one, Fraction(10 ** 40, 3))))
 
-    def test_multiples_of_a_great_prime(self):
-        # The prime by which rows are seen to be without a common divisor.
-        great = 2 ** 61 - 1
-        self.assertEqual(PRIME, great)
-        part = row(1, great)
-        self.check(plain_product(part, SLOW), plain_product(part, WILD))
-        self.assertEqual(common_divisor(plain_product(part, SLOW), plain_product(part, WILD)), part)
-        self.assertEqual(common_divisor(plain_product(part, SLOW), part), part)
-        self.assertEqual(common_divisor(part, plain_product(part, SPRING)), part)
-        self.assertEqual(common_divisor(part, WILD), row(1))
-        self.assertEqual(common_divisor(row(1, -1), row(1, -1 - great)), row(1))
-        self.assertEqual(common_divisor(row(1, 3, great), row(1, 3)), row(1))
-        self.assertEqual(common_divisor(row(great), row(great)), row(1))
-        for one in (row(1, 1), row(1, -1 - great, great), row(3, 0, great, 5), row(great, great, 1), row(great)):
-            for other in (row(1, 1 + great), row(0, 1, great), row(1, 0, great * great), row(great * great, 1)):
-                with self.subTest(one=one, other=other):
-                    self.check(one, other)
-                    self.check(plain_product(one, part), plain_product(other, part))
-                    self.check(plain_product(one, SPRING), plain_product(other, SPRING))
+    def test_small_numbers(self):
+        # Rows whose worths at small numbers have much in common, although they have no divisor.
+        rows = [row(*numbers) for numbers in product((-4, -1, 0, 2, 3), repeat=3)]
+        for one in rows[::2]:
+            for other in rows[1::3]:
+                if one != () or other != ():
+                    with self.subTest(one=one, other=other):
+                        self.check(one, other)
 
-    def test_seen_by_the_prime(self):
-        great = 2 ** 61 - 1
-        apart = [([1, -2], [2, -1]), ([1, 0, 1], [1, -1]), ([1, -1], [1, 0, 1]), ([4, 2, 1], [7]), ([7], [4, 2, 1]),
-                 ([5], [3]), ([1, 2, 3, 4], [4, 3, 2, 1]), ([0, 0, 1], [3, 1]), ([1, 10 ** 40], [10 ** 30, 1, 7]),
-                 ([1, 1, 1, 1, 1, 1], [1, -1, 1, -1, 1])]
-        for ours, theirs in apart:
-            with self.subTest(ours=ours, theirs=theirs):
-                self.assertIs(surely_apart(ours, theirs), True)
-                self.assertIs(surely_apart(theirs, ours), True)
-        for ours, theirs in (([1, -2], [1, -2]), ([1, -3, 2], [1, -1]), ([0, 1], [0, 0, 5]), ([2, 3, 1], [1, 2, 1]),
-                             ([1, great], [1, 2]), ([1, great], [1, great]), ([1, -1], [1, -1 - great]),
-                             ([1, 0, 0, -1], [1, 1, 1]), ([1, 3, great], [1, 3 + great, 2 * great])):
-            with self.subTest(ours=ours, theirs=theirs):
-                self.assertIs(surely_apart(ours, theirs), False)
-                self.assertIs(surely_apart(theirs, ours), False)
+    def test_common_parts_of_small_numbers(self):
+        rows = [row(*numbers) for numbers in product((-3, 1, 4), repeat=2)]
+        parts = [row(2, 1), row(-3, 4), row(3, 0, 1), row(1, -5, 5), row(0, 7, 2)]
+        for one, other, part in product(rows, rows, parts):
+            with self.subTest(one=one, other=other, part=part):
+                self.check(plain_product(one, part), plain_product(other, part))
 
     def test_many_numbers(self):
         one = row(*[Fraction(k * k - 40, k + 1) for k in range(16)])
