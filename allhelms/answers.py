@@ -2,7 +2,7 @@
 
 from allhelms.errors import InvalidAnswer, InvalidRow, NotSteady, NoughtFirst
 from allhelms.ratios import NIL, ONE, check_number, ratio_less, ratio_over, ratio_product
-from allhelms.rows import check_filled_row, check_row, is_led, is_row
+from allhelms.rows import check_filled_row, check_row, is_led_row, is_row
 from allhelms.steady import found_bends
 from allhelms.sums import plus, quotient_of, scaled, shared_part, times, worth_of
 
@@ -14,7 +14,7 @@ def is_answer(value):
     if type(value) is not tuple or len(value) != 2:
         return False
     top, under = value
-    if not is_row(top) or not is_row(under) or not is_led(under):
+    if not is_row(top) or not is_led_row(under):
         return False
     # The common divisor with () is UNDER itself, which then is (1).
     return len(shared_part(top, under)) == 1

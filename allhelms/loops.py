@@ -15,9 +15,14 @@ def check_loop(machine, helm):
     check_helm(helm)
 
 
+def is_start(value, size):
+    """Whether a value, whatever it is, is a row of a degree below the size, () let."""
+    return is_row(value) and len(value) <= size
+
+
 def check_start(given, size):
     """Raise InvalidStart for no row of a degree below the size, () let."""
-    if not is_row(given) or len(given) > size:
+    if not is_start(given, size):
         raise InvalidStart(given)
 
 

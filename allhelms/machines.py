@@ -3,7 +3,7 @@
 from allhelms.closings import greater_degree, shared_by, without
 from allhelms.errors import InvalidHelm, InvalidMachine, NoHelm
 from allhelms.ratios import NIL
-from allhelms.rows import is_led, is_row
+from allhelms.rows import is_led_row, is_row
 from allhelms.steady import found_bends
 from allhelms.sums import times
 
@@ -12,7 +12,7 @@ def is_helm(value):
     """Whether a value, whatever it is, is a helm."""
     if type(value) is not tuple or len(value) != 2:
         return False
-    return is_row(value[0]) and is_row(value[1]) and is_led(value[1])
+    return is_row(value[0]) and is_led_row(value[1])
 
 
 def is_machine(value):

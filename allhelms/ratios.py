@@ -32,6 +32,16 @@ def check_fraction(given):
         raise InvalidFraction(given)
 
 
+def is_share(value):
+    """Whether a value, whatever it is, is a fraction above 0 and up to 1."""
+    return is_fraction(value) and 0 < value[0] <= value[1]
+
+
+def is_inner(value):
+    """Whether a value, whatever it is, is a fraction from - 1 to 1."""
+    return is_fraction(value) and abs(value[0]) <= value[1]
+
+
 def check_number(given, low, high):
     """Raise InvalidNumber for no whole number from low to high."""
     if not is_whole(given) or not low <= given <= high:
@@ -69,3 +79,19 @@ def ratio_over(one, other):
 def is_small(one):
     """Whether a fraction is of a size below 1."""
     return abs(one[0]) < one[1]
+
+
+def is_up_to(one, other):
+    """Whether the first fraction is at most the second one."""
+    return one[0] * other[1] <= other[0] * one[1]
+
+
+def powered(number, many):
+    """The whole number to the power `many`, which is from 0 on."""
+    power = 1
+    while many > 0:
+        if many & 1:
+            power = power * number
+        number = number * number
+        many >>= 1
+    return power

@@ -18,6 +18,16 @@ def is_led(row):
     return row != () and row[0] == ONE
 
 
+def is_filled_row(value):
+    """Whether a value, whatever it is, is a row other than ()."""
+    return is_row(value) and value != ()
+
+
+def is_led_row(value):
+    """Whether a value, whatever it is, is a led row."""
+    return is_row(value) and is_led(value)
+
+
 def check_row(given):
     """Raise InvalidRow for no row."""
     if not is_row(given):
@@ -26,13 +36,13 @@ def check_row(given):
 
 def check_filled_row(given):
     """Raise InvalidRow for no row other than ()."""
-    if not is_row(given) or given == ():
+    if not is_filled_row(given):
         raise InvalidRow(given)
 
 
 def check_led_row(given):
     """Raise InvalidRow for no led row."""
-    if not is_row(given) or not is_led(given):
+    if not is_led_row(given):
         raise InvalidRow(given)
 
 

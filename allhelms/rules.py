@@ -4,14 +4,19 @@ from allhelms.closings import base_of, shared_by, without
 from allhelms.errors import InvalidRule
 from allhelms.loops import check_loop, check_steady_loop
 from allhelms.machines import check_machine
-from allhelms.rows import is_led, is_row
+from allhelms.rows import is_led_row
 from allhelms.steady import found_bends
 from allhelms.sums import UNIT, quotient_of, shared_part, times
 
 
+def is_rule(value):
+    """Whether a value, whatever it is, is a led row of a degree above 0."""
+    return is_led_row(value) and len(value) > 1
+
+
 def check_rule(given):
     """Raise InvalidRule for no led row of a degree above 0."""
-    if not is_row(given) or not is_led(given) or len(given) == 1:
+    if not is_rule(given):
         raise InvalidRule(given)
 
 

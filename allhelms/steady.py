@@ -1,8 +1,8 @@
 """Steady rows: those that are 0 for no number of the size 1 or less."""
 
 from allhelms.errors import InvalidBends, InvalidFraction
-from allhelms.ratios import (NIL, ONE, is_fraction, is_small, ratio, ratio_over, ratio_product,
-                             ratio_sum)
+from allhelms.ratios import (NIL, ONE, is_fraction, is_share, is_small, ratio, ratio_over,
+                             ratio_product, ratio_sum)
 from allhelms.rows import check_filled_row
 from allhelms.sums import UNIT, cleared, divided, stretched
 
@@ -37,7 +37,7 @@ def bends_of(row):
 def is_quick(row, fraction):
     """Whether a row is 0 for no number of the size 1 / fraction or less."""
     check_filled_row(row)
-    if not is_fraction(fraction) or not 0 < fraction[0] <= fraction[1]:
+    if not is_share(fraction):
         raise InvalidFraction(fraction)
     return found_bends(stretched(row, ratio_over(ONE, fraction))) is not None
 

@@ -37,6 +37,12 @@ def row_over(numbers, under):
     return trimmed([ratio(number, under) for number in numbers])
 
 
+def size_sum(row):
+    """The sum of the sizes of the numbers of a row."""
+    numbers, under = cleared(row)
+    return ratio(sum([abs(number) for number in numbers]), under)
+
+
 def padded(row, many):
     """The fractions of a row with noughts behind them, so many in all."""
     return row + (NIL,) * (many - len(row))

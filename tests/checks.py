@@ -5,7 +5,7 @@ import unittest
 
 class ErrorCase(unittest.TestCase):
 
-    def fails(self, error, attribute, value, call, *arguments, **named):
+    def fails(self, error, attribute, value, call, /, *arguments, **named):
         """The call raises just this error, which keeps just this value (by `is`)."""
         with self.assertRaises(error) as caught:
             call(*arguments, **named)
@@ -16,6 +16,6 @@ class ErrorCase(unittest.TestCase):
             self.assertEqual(list(vars(caught.exception)), [attribute])
             self.assertIs(getattr(caught.exception, attribute), value)
 
-    def fails_given(self, error, value, call, *arguments, **named):
+    def fails_given(self, error, value, call, /, *arguments, **named):
         """The call raises just this error, which was given just this value."""
         self.fails(error, "given", value, call, *arguments, **named)

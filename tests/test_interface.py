@@ -6,6 +6,7 @@ import pathlib
 import unittest
 
 import allhelms
+from allhelms.workshops import Workshop
 
 INTERFACE = {
     "rows": {"is_row": "value", "value_at": "row fraction", "row_sum": "row other", "row_less": "row other",
@@ -25,6 +26,30 @@ INTERFACE = {
               "least_helm": "machine wished", "is_steady_helm": "helm"},
     "rules": {"follows": "machine helm rule", "unfollowed_start": "machine helm rule",
               "can_follow": "machine rule", "following_helm": "machine rule", "rule_left": "machine rule"},
+    "limits": {"error_answer": "machine helm", "is_error": "machine answer", "helm_with_error": "machine answer",
+               "fixed_sum": "machine x", "helm_with_sum": "machine x value",
+               "least_dip": "machine x beat slack", "least_peak": "machine x"},
+    "worst": {"worst_near": "answer many", "worst_row": "answer many", "is_bound": "answer low high value"},
+    "least": {"is_told": "machine", "told_zeros": "machine", "least_worst": "machine", "least_row": "machine",
+              "worst_weights": "machine", "are_weights": "machine value", "calmest_helm": "machine"},
+    "parity": {"has_steady_helm": "machine", "parting_stretch": "machine", "is_parting": "machine value",
+               "difference_of": "machine other", "one_for_both": "machine other",
+               "parting_of_both": "machine other"},
+    "checker": {"accepts": "claim paper"},
+    "certificates": {"certify_bends": "row", "certify_loop": "machine helm", "certify_machine": "machine",
+                     "certify_free": "machine helm", "certify_follows": "machine helm rule",
+                     "certify_rule": "machine rule", "certify_error": "machine answer",
+                     "certify_sum": "machine x value", "certify_worst": "answer many",
+                     "certify_closing": "machine wished", "certify_over": "machine", "certify_least": "machine",
+                     "certify_steady_helm": "machine", "certify_both": "machine other"},
+}
+
+# The classes, each with its methods and the names of their parameters, and its properties.
+CLASSES = {
+    ("workshops", "Workshop"): (
+        {"__init__": "", "put_machine": "name machine", "put_helm": "name helm", "drop": "name", "wish": "wish",
+         "lift": "index", "named": "name", "undo": "", "trial": "", "tried": "action"}, ("names", "wishes")),
+    ("consoles", "Console"): ({"__init__": "shop", "say": "line"}, ()),
 }
 
 
@@ -43,6 +68,24 @@ class Interface(unittest.TestCase):
                     for parameter in told:
                         self.assertIs(parameter.kind, inspect.Parameter.POSITIONAL_OR_KEYWORD)
                         self.assertIs(parameter.default, inspect.Parameter.empty)
+
+    def test_classes(self):
+        for (file, name), (methods, properties) in CLASSES.items():
+            made = getattr(importlib.import_module("allhelms." + file), name)
+            self.assertTrue(inspect.isclass(made))
+            self.assertEqual(made.__module__, "allhelms." + file)
+            for method, parameters in methods.items():
+                with self.subTest(name=name, method=method):
+                    # In the class itself, not only in a base class.
+                    told = list(inspect.signature(vars(made)[method]).parameters.values())[1:]
+                    self.assertEqual([parameter.name for parameter in told], parameters.split())
+                    for parameter in told:
+                        self.assertIs(parameter.kind, inspect.Parameter.POSITIONAL_OR_KEYWORD)
+                        self.assertIs(parameter.default, inspect.Parameter.empty)
+            for told in properties:
+                self.assertIsInstance(vars(made)[told], property)
+        self.assertIn("__len__", vars(Workshop))
+        self.assertIn("__contains__", vars(Workshop))
 
     def test_the_package_is_this_one(self):
         folder = pathlib.Path(__file__).resolve().parent.parent / "allhelms"

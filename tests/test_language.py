@@ -13,7 +13,7 @@ BARRED = {"mro", "elements", "open", "input", "law", "version_info", "with_trace
 LET = {"len", "range", "enumerate", "zip", "min", "max", "sum", "abs", "sorted", "reversed", "int", "str",
        "bool", "bytes", "list", "tuple", "dict", "set", "isinstance", "ord", "repr", "any", "all", "divmod",
        "type", "ValueError", "KeyError", "IndexError", "TypeError", "LookupError", "Exception", "True",
-       "False", "None"}
+       "False", "None", "property"}
 
 
 def files():
@@ -115,7 +115,10 @@ class Language(unittest.TestCase):
                 with self.subTest(file=path.name, line=getattr(node, "lineno", 0)):
                     self.assertNotIsInstance(node, barred)
                     if isinstance(node, ast.FunctionDef):
-                        self.assertEqual(node.decorator_list, [])
+                        self.assertLessEqual({getattr(told, "id", None) for told in node.decorator_list},
+                                             {"property"})
+                    if isinstance(node, ast.BinOp) and isinstance(node.op, ast.Pow):
+                        self.assertIsInstance(node.right, ast.Constant)
                     if isinstance(node, ast.Constant):
                         self.assertNotIsInstance(node.value, (float, complex))
                     if isinstance(node, ast.Constant) and isinstance(node.value, str):
