@@ -52,7 +52,8 @@ CASES = [
     Case(1, [F(1, 2), F(1, 3)], [F(2, 3)]), Case(1, [F(1, 2), F(-1, 2)], [F(2, 3)], (row(3), row(1))),
     Case(1, [F(1, 2)], [F(2, 3), F(3, 4)]), Case(5, [F(2, 3), F(-1, 3)], [F(1, 2)]),
     Case(1, [F(1, 2), F(-3, 4)], [F(2, 3), F(-1, 4)]), Case(1, [F(1, 3)], [F(1, 2), F(-1, 2)], (SLOW, row(1)), SPRING),
-    Case(1, [F(1, VAST)], [F(1, 2)]), Case(1, [], [F(1, VAST)]), Case(1, [F(VAST - 1, 3 * VAST)], [F(1, 2), F(7, VAST)]),
+    Case(1, [F(1, VAST)], [F(1, 2)]), Case(1, [], [F(1, VAST)]),
+    Case(1, [F(VAST - 1, 3 * VAST)], [F(1, 2), F(7, VAST)]),
     Case(2, [F(1, VAST + 1)], [F(1, VAST)], (row(VAST), row(1, F(1, VAST)))),
 ]
 
@@ -106,7 +107,8 @@ class Told(unittest.TestCase):
 
     def test_what_is_steady_does_not_count(self):
         # Steady zeros twice, no fractions, not real.
-        for part in (plain_product(SLOW, SLOW), row(1, 0, F(-1, 2)), SPRING, plain_product(row(1, F(1, 3)), row(1, F(1, 3)))):
+        for part in (plain_product(SLOW, SLOW), row(1, 0, F(-1, 2)), SPRING,
+                     plain_product(row(1, F(1, 3)), row(1, F(1, 3)))):
             for machine in ((plain_product(row(0, 1, -4), part), WILD), (row(0, 1, -4), plain_product(WILD, part)),
                             grown(SHY, part)):
                 with self.subTest(machine=machine):

@@ -224,7 +224,8 @@ class Partings(unittest.TestCase):
     def test_other_values(self):
         good = ((3, 4), ONE)
         self.assertIs(is_parting(ODD, good), True)
-        for value in (list(good), [[3, 4], [1, 1]], ((3, 4), [1, 1]), ([3, 4], ONE), good + (ONE,), good[:1], (), None, 7,
+        for value in (list(good), [[3, 4], [1, 1]], ((3, 4), [1, 1]), ([3, 4], ONE), good + (ONE,), good[:1], (),
+                      None, 7,
                       ((6, 8), ONE), ((3, 4), (2, 2)), ((3, 4), 1), ((3, 4), True), ((3, 4), (True, 1)), "", "ab", ODD,
                       ((3, 4), None), (None, ONE), ((3, 4), TWO), ((-3, 2), ONE), (ONE, (3, 4))):
             self.assertIs(is_parting(ODD, value), False)

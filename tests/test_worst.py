@@ -69,7 +69,9 @@ def beats_of(answer, many):
     top, under = plain(answer[0]), plain(answer[1])
     told = []
     for k in range(many):
-        told.append((top[k] if k < len(top) else 0) - sum(under[i] * told[k - i] for i in range(1, min(k + 1, len(under)))))
+        told.append((top[k] if k < len(top) else 0) - sum(under[i] * told[k - i] for i in range(1,
+                                                                                                min(k + 1,
+                                                                                                    len(under)))))
     return told
 
 
