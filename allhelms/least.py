@@ -1,10 +1,9 @@
 """The least worst answer for all goals over all helms, of machines whose unsteady zeros are fractions."""
 
 from allhelms.balance import greatest_weights, least_numbers
-from allhelms.closings import shared_by, without
 from allhelms.errors import NotTold
 from allhelms.limits import helm_leaving
-from allhelms.machines import check_machine, steady_core
+from allhelms.machines import check_machine, found_core, steady_core
 from allhelms.powers import Aims, are_within
 from allhelms.ratios import NIL, ONE, is_fraction, ratio_less, ratio_over
 from allhelms.steady import found_bends
@@ -50,8 +49,8 @@ def aims_of(core):
 
 def told_aims(machine):
     """The same of any machine; None, too, if no helm steadies it."""
-    part = shared_by(machine)
-    return None if found_bends(part) is None else aims_of(without(machine, part))
+    core = found_core(machine)
+    return None if core is None else aims_of(core)
 
 
 def checked_aims(machine):

@@ -1,15 +1,14 @@
 """What no helm can: the errors that some helm leaves, the sums that all have in common, dips and peaks."""
 
 from allhelms.answers import check_answer, made_answer
-from allhelms.closings import base_of, closed, shared_by, without
+from allhelms.closings import base_of, closed
 from allhelms.errors import InvalidFraction, NotAZero
 from allhelms.helms import helm_of
 from allhelms.loops import check_loop, check_steady_loop
-from allhelms.machines import check_machine, steady_core
+from allhelms.machines import check_machine, found_core, steady_core
 from allhelms.ratios import (NIL, ONE, check_fraction, check_number, is_fraction, is_inner, is_small, powered,
                              ratio, ratio_less, ratio_over, ratio_product)
 from allhelms.rules import has_unsteady_zeros
-from allhelms.steady import found_bends
 from allhelms.sums import UNIT, minus, quotient_of, scaled, shared_part, times, trimmed, worth_of
 
 LEAST_BEAT = 2
@@ -75,17 +74,14 @@ def helm_with_error(machine, answer):
     """The helm, without common divisor, that leaves this error; None if there is none."""
     check_machine(machine)
     check_answer(answer)
-    part = shared_by(machine)
-    if found_bends(part) is None:
+    core = found_core(machine)
+    if core is None:
         return None
-    core = without(machine, part)
+    n, m = core
     top, under = answer
     # S / m' and (1 - S) / n' are steady answers just if they leave no unsteady zero, 0 among them, below.
-    if not has_unsteady_zeros(top, times(under, core[1])):
-        return None
-    if not has_unsteady_zeros(minus(under, top), times(under, core[0])):
-        return None
-    return helm_leaving(core, top, under)
+    leave = has_unsteady_zeros(top, times(under, m)) and has_unsteady_zeros(minus(under, top), times(under, n))
+    return helm_leaving(core, top, under) if leave else None
 
 
 def fixed_sum(machine, x):

@@ -32,12 +32,18 @@ def check_helm(given):
         raise InvalidHelm(given)
 
 
+def found_core(machine):
+    """The core of a machine; None if its hidden part is not steady."""
+    part = shared_by(machine)
+    return None if found_bends(part) is None else without(machine, part)
+
+
 def steady_core(machine):
     """The core of a machine; raise NoHelm if its hidden part is not steady."""
-    part = shared_by(machine)
-    if found_bends(part) is None:
+    core = found_core(machine)
+    if core is None:
         raise NoHelm()
-    return without(machine, part)
+    return core
 
 
 def size_of(machine):

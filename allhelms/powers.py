@@ -9,7 +9,10 @@ from allhelms.ratios import powered
 from allhelms.sums import cleared
 
 # So many bits tell which of two sums is greater, well enough to choose by.
-FINE_BITS = 32
+FINE_BITS = 64
+
+# So many beats are looked at, at least, for a sum that is farther beyond.
+SPARE_BEATS = 32
 
 
 class Aims:
@@ -66,28 +69,28 @@ def first_beats(aims):
     return list(range(aims.first, aims.first + len(aims.marks)))
 
 
-def beyond(aims, weights, end, one):
+def beyond(aims, weights, end, first):
     """A beat from the first one on, below the end, None for no end, at which the sum of the weights is beyond 1.
 
-    The beat and the sign of the sum there, of one that is far beyond or, if `one`, the first; None if
-    there is none. The weights are whole numbers over one.
+    The beat and the sign of the sum there: the first such beat or, if not `first`, one of those that
+    are far beyond; None if there is none. The weights are whole numbers over one.
     """
     numbers, under = weights
     here = [number * power for number, power in zip(numbers, marks_at(aims, aims.first))]
     over = under * unit_at(aims, aims.first)
     beat, found, most = aims.first, None, 0
+    # When the sum of sizes is not beyond 1, no later sum is.
     while (end is None or beat < end) and sum([abs(x) for x in here]) > over:
         whole = sum(here)
         if abs(whole) > over:
             size = (abs(whole) << FINE_BITS) // over
-            if found is None or size > most:
+            if size > most:
                 found, most = (beat, 1 if whole > 0 else -1), size
-            if one:
-                return found
+        if found is not None and (first or beat > 2 * found[0] + SPARE_BEATS):
+            return found
         here = [x * mark for x, mark in zip(here, aims.marks)]
         over = over * aims.unit
         beat += 1
-    # All later sums are smaller than those of the sizes here.
     return found
 
 
@@ -97,7 +100,7 @@ def are_within(aims, weights):
 
 
 def quiet_beat(aims):
-    """The beat from which on no weights are beyond that are not so at the first beats."""
+    """A beat from which on no weights are beyond 1 that are not so at the first beats."""
     beats = first_beats(aims)
     many = len(beats)
     rows = []
@@ -106,10 +109,10 @@ def quiet_beat(aims):
         right[at] = unit_at(aims, beat)
         rows.append(marks_at(aims, beat) + right)
     found, under = solved(rows, many)
-    most = [sum([abs(x) for x in row]) for row in found]
-    beat = 0
-    while sum(most) > under:
-        most = [x * abs(mark) for x, mark in zip(most, aims.marks)]
-        under = under * aims.unit
-        beat += 1
-    return max(beat, beats[-1] + 1)
+    end = beats[-1] + 1
+    for row, mark in zip(found, aims.marks):
+        # The sums at the first beats being of sizes up to 1, this weight is below 2 ** bits / many, and
+        # x ** k is below 2 ** - bits if k times 1 - x is at least that, x being a size.
+        bits = (many * sum([abs(x) for x in row]) // under + 1).bit_length()
+        end = max(end, bits * aims.unit // (aims.unit - abs(mark)) + 1)
+    return end

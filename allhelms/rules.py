@@ -3,7 +3,7 @@
 from allhelms.closings import base_of, shared_by, without
 from allhelms.errors import InvalidRule
 from allhelms.loops import check_loop, check_steady_loop
-from allhelms.machines import check_machine
+from allhelms.machines import check_machine, found_core
 from allhelms.rows import is_led_row
 from allhelms.steady import found_bends
 from allhelms.sums import UNIT, quotient_of, shared_part, times
@@ -52,16 +52,14 @@ def following_helm(machine, rule):
     """Any helm that steadies a machine and follows a rule; None if there is none."""
     check_machine(machine)
     check_rule(rule)
-    part = shared_by(machine)
-    if found_bends(part) is None:
+    core = found_core(machine)
+    if core is None:
         return None
-    core = without(machine, part)
     left = left_of(core, rule)
-    longer = core[0], times(core[1], left)
-    shared = shared_by(longer)
-    if found_bends(shared) is None:
+    longer = found_core((core[0], times(core[1], left)))
+    if longer is None:
         return None
-    a, b = base_of(without(longer, shared))
+    a, b = base_of(longer)
     return a, times(b, left)
 
 

@@ -7,7 +7,7 @@ from allhelms.ratios import (ONE, check_fraction, check_number, is_small, is_up_
 from allhelms.rows import is_row
 from allhelms.sums import cleared, row_over, size_sum, whole_product
 
-MOST_MANY = 10 ** 6
+MOST_MANY = 1000000
 FEWEST_NUMBERS = 8
 SPARE_BITS = 32
 
