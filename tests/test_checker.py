@@ -22,6 +22,8 @@ from tests.tools import (HALF, LESS, NIL, NO_ANSWERS, NO_FRACTIONS, NO_ROWS, NO_
 
 F = Fraction
 SURE = (row(3, -2), KEEP)
+# What is told to the first machine grows, what it shows does not.
+COVERED, COVERING = (row(0, 1, -2), row(1)), (row(F(1, 2)), WILD)
 TRAIL = (row(F(3, 2)), row(1))
 HIDDEN = grown(CART, SLOW)
 LOSING = grown(CART, plain_product(SLOW, WILD))
@@ -47,6 +49,7 @@ RIGHT = [
     (("runs away", CART, IDLE), (row(1), ())), (("runs away", CART, IDLE), (row(F(-1, 10 ** 40)), ())),
     (("runs away", (row(0, 1), SLOW), ((), row(1, 3))), ((), row(1))),
     (("runs away", (row(0, 1), SLOW), ((), row(1, 3))), (row(1), row(-5))),
+    (("runs away", COVERED, COVERING), ((), row(1))), (("runs away", COVERED, COVERING), (row(-3, 1), ())),
     (("runs away", STUCK, HAND), (row(1, 1), ())), (("runs away", CART, grown(HAND, KEEP)), ((), row(1))),
     (("can be steadied", CART), HAND), (("can be steadied", CART), grown(HAND, SLOW)),
     (("can be steadied", HIDDEN), TRAIL),

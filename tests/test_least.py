@@ -55,6 +55,8 @@ CASES = [
     Case(1, [F(1, VAST)], [F(1, 2)]), Case(1, [], [F(1, VAST)]),
     Case(1, [F(VAST - 1, 3 * VAST)], [F(1, 2), F(7, VAST)]),
     Case(2, [F(1, VAST + 1)], [F(1, VAST)], (row(VAST), row(1, F(1, VAST)))),
+    # Zeros so near to the round that their powers stay near to 1 for longer than anybody looks.
+    Case(1, [1 - F(1, 10 ** 25)], [F(1, 2)]), Case(1, [], [1 - F(1, 10 ** 30), F(-1, 3)], (SLOW, SPRING)),
 ]
 
 NOT_TOLD = [

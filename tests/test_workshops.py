@@ -20,6 +20,7 @@ from tests.tools import (HALF, LESS, NIL, NO_FRACTIONS, NO_TUPLES, ONE, SLOW, TW
 SURE = (row(3, -2), KEEP)
 TRAIL = (row(Fraction(3, 2)), row(1))
 BACKING = (row(-1), row(1, 2))
+STILL = (row(0, Fraction(1, 2)), row(1))
 
 NO_NAMES = [value for value in NO_TUPLES if value != "row"] + [
     "", "A", "Cart", "cart ", " cart", "ca rt", "cart1", "1", "a-b", "a" * 13, "caf\u00e9", "\u00e4", "a\n", "{", "`",
@@ -167,7 +168,12 @@ class Refusals(ErrorCase):
             self.index(Broken, 4, self.shop.wish, wish)
             self.index(Broken, 4, self.shop.wish, wish=wish)
         self.shop.put_helm("trail", TRAIL)
+        # A machine would do as a helm here, but it is none.
+        self.shop.put_machine("still", STILL)
         self.before = told(self.shop)
+        for wish in (("steady", "still", "still"), ("quick", "still", "still", ONE), ("follows", "still", "still", SLOW)):
+            self.assertIs(is_steady_loop(STILL, STILL), True)
+            self.index(Broken, 4, self.shop.wish, wish)
         self.index(Broken, 4, self.shop.wish, ("quick", "cart", "trail", HALF))
         self.shop.wish(("quick", "cart", "trail", (2, 3)))
         self.before = told(self.shop)
