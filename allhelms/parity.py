@@ -3,8 +3,8 @@
 from allhelms.closings import base_of
 from allhelms.machines import check_machine, steady_core
 from allhelms.ratios import ONE, is_inner, is_up_to, ratio
-from allhelms.sums import minus, plus, times, worth_of
-from allhelms.zeros import chain_of, many_zeros
+from allhelms.sums import cleared, minus, plus, times, worth_of
+from allhelms.zeros import halves, has_zero, is_free, is_hit, plain_part, stretch_of
 
 LESS = (-1, 1)
 
@@ -12,26 +12,25 @@ LESS = (-1, 1)
 def parts_at(core, low, high):
     """Whether one row of a machine is 0 somewhere from low to high, and the other one below 0 throughout."""
     n, m = core
-    if worth_of(m, low)[0] >= 0 or many_zeros(chain_of(m), low, high) > 0:
-        return False
-    return many_zeros(chain_of(n), low, high) > 0
+    return worth_of(m, low)[0] < 0 and not has_zero(m, low, high) and has_zero(n, low, high)
 
 
 def found_parting(core):
     """A parting stretch of a machine whose rows have no common divisor; None if there is none."""
-    ours, theirs = chain_of(core[0]), chain_of(core[1])
-    left = [(LESS, ONE)]
+    n, m = cleared(core[0])[0], cleared(core[1])[0]
+    left = [(LESS, ONE, stretch_of(plain_part(n), LESS, ONE), stretch_of(m, LESS, ONE))]
     while left != []:
-        low, high = left.pop()
-        if many_zeros(ours, low, high) == 0:
+        low, high, ours, theirs = left.pop()
+        parted = is_free(theirs)
+        if is_free(ours) or (parted and theirs[0] > 0):
             continue
-        if many_zeros(theirs, low, high) > 0:
-            # No zero is one of both, so halves of halves come to hold zeros of one row alone.
-            middle = ratio(low[0] * high[1] + high[0] * low[1], 2 * low[1] * high[1])
-            left.append((middle, high))
-            left.append((low, middle))
-        elif worth_of(core[1], low)[0] < 0:
+        if parted and is_hit(ours):
             return low, high
+        # No zero is one of both, so one of both rows is free in short stretches.
+        middle = ratio(low[0] * high[1] + high[0] * low[1], 2 * low[1] * high[1])
+        ahead, behind = halves(ours), halves(theirs)
+        left.append((middle, high, ahead[1], behind[1]))
+        left.append((low, middle, ahead[0], behind[0]))
     return None
 
 

@@ -1,12 +1,12 @@
-"""Zeros of rows: how many real ones there are from one fraction to another one, and those that are fractions.
+"""Zeros of rows: whether there are real ones from one fraction to another one, and those that are fractions.
 
-A chain is the list of rows of whole numbers that Sturm tells for a row: from one
-fraction to a greater one as many zeros of the row are passed as changes of sign
-along the chain are lost.
+A stretch of a row, from one fraction to another one, is the row of whole numbers that has
+at t, from 0 to 1, the worth that the row has so far on the way from the one to the other
+one, times some number above 0. There may be noughts at its end.
 """
 
 from allhelms.ratios import ratio
-from allhelms.sums import cleared, divided, primitive, whole_shared, whole_split, without_end
+from allhelms.sums import cleared, primitive, whole_shared, whole_split
 
 
 def slope(numbers):
@@ -22,40 +22,73 @@ def plain_part(numbers):
     return primitive(whole_split(first, whole_shared(first, primitive(slope(first))))[0])
 
 
-def chain_of(row):
-    """The chain of a row other than ()."""
-    chain = [plain_part(cleared(row)[0])]
-    following = slope(chain[0])
-    while following != []:
-        chain.append(following)
-        _, rest, scale = whole_split(chain[-2], chain[-1])
-        rest = without_end(rest, 0)
-        following = divided([-x for x in rest] if scale > 0 else rest)
-    return chain
+def shifted(numbers):
+    """The row of whole numbers that has at t the worth that another one has at t + 1."""
+    told = list(numbers)
+    for end in range(len(told) - 1):
+        for at in reversed(range(end, len(told) - 1)):
+            told[at] += told[at + 1]
+    return told
 
 
-def sign_of(numbers, x):
-    """1, 0 or - 1: the sign of the worth of a row of whole numbers at a fraction."""
+def stretch_of(numbers, low, high):
+    """The stretch of a row of whole numbers from low to high."""
+    start, under = low[0] * high[1], low[1] * high[1]
+    width = high[0] * low[1] - start
+    told, power = [], 1
+    for number in reversed(numbers):
+        told = [start * x + width * y for x, y in zip(told + [0], [0] + told)]
+        told[0] += number * power
+        power = power * under
+    return told
+
+
+def halves(stretch):
+    """The stretches of the first and of the second half of the way."""
+    last = len(stretch) - 1
+    first = [number << (last - at) for at, number in enumerate(stretch)]
+    return first, shifted(first)
+
+
+def may_turn(stretch):
+    """Whether there may be a zero between the ends; if not, there is none (Descartes)."""
+    signs = [number > 0 for number in shifted(stretch[::-1]) if number != 0]
+    return any([signs[at] != signs[at - 1] for at in range(1, len(signs))])
+
+
+def is_hit(stretch):
+    """Whether there is a zero for sure: at an end, or between ends of different signs."""
+    first, last = stretch[0], sum(stretch)
+    return first == 0 or last == 0 or (first > 0) != (last > 0)
+
+
+def is_free(stretch):
+    """Whether there is no zero for sure, the ends let in."""
+    return not is_hit(stretch) and not may_turn(stretch)
+
+
+def has_zero(row, low, high):
+    """Whether a row, other than (), has a zero from low to high, both let in."""
+    left = [stretch_of(plain_part(cleared(row)[0]), low, high)]
+    while left != []:
+        stretch = left.pop()
+        if is_hit(stretch):
+            return True
+        # As no zero comes twice, short stretches are hit or free (Vincent).
+        if may_turn(stretch):
+            first, second = halves(stretch)
+            left.append(second)
+            left.append(first)
+    return False
+
+
+def is_zero(numbers, x):
+    """Whether a row of whole numbers is 0 at a fraction."""
     worth, power = 0, 1
     for number in reversed(numbers):
         worth = worth * x[0] + number * power
         power = power * x[1]
-    if worth == 0:
-        return 0
-    return 1 if worth > 0 else -1
-
-
-def changes_at(chain, x):
-    """How often the sign changes along a chain at a fraction, noughts left out."""
-    signs = [sign for sign in [sign_of(numbers, x) for numbers in chain] if sign != 0]
-    return len([at for at in range(1, len(signs)) if signs[at] != signs[at - 1]])
-
-
-def many_zeros(chain, low, high):
-    """How many zeros, each taken once, there are from low to high, both let in."""
-    # Sturm's count leaves the lower end out.
-    passed = changes_at(chain, low) - changes_at(chain, high)
-    return passed + 1 if sign_of(chain[0], low) == 0 else passed
+    return worth == 0
 
 
 def worth_modulo(numbers, at, modulus):
@@ -122,6 +155,6 @@ def inner_fractions(row):
         top = place * last % modulus
         if 2 * top > modulus:
             top -= modulus
-        if abs(top) < abs(last) and sign_of(numbers, ratio(top, last)) == 0:
+        if abs(top) < abs(last) and is_zero(numbers, ratio(top, last)):
             found.append(ratio(top, last))
     return found
