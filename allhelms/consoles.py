@@ -33,7 +33,7 @@ class Console:
     """Reads lines and answers them by what they do to a workshop."""
 
     def __init__(self, shop):
-        if not isinstance(shop, Workshop):
+        if type(shop) is not Workshop:
             raise NotAWorkshop(shop)
         self.shop = shop
 

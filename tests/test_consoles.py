@@ -64,6 +64,12 @@ NO_LINES = [value for value in NO_TUPLES if not isinstance(value, str)] + [
 ]
 
 
+class Pretender:
+    """Says that its class is that of workshops."""
+
+    __class__ = Workshop
+
+
 class Lines(unittest.TestCase):
 
     def setUp(self):
@@ -157,7 +163,7 @@ class Refusals(ErrorCase):
         self.assertEqual([self.shop.named(name)[1] for name in self.shop.names], [CART, HAND, IDLE])
 
     def test_no_workshops(self):
-        for value in NO_TUPLES + [Workshop, self.console, deep(14), ("cart",)]:
+        for value in NO_TUPLES + [Workshop, self.console, deep(14), ("cart",), Pretender()]:
             self.fails_given(NotAWorkshop, value, Console, value)
             self.fails_given(NotAWorkshop, value, Console, shop=value)
 
