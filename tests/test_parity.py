@@ -221,6 +221,55 @@ class Partings(unittest.TestCase):
         self.check(sunk, F(3, 4), F(4, 5), False)
         self.check(sunk, F(3, 4), F(9, 10), False)
 
+    def test_several_zeros_in_a_stretch(self):
+        # m' is below 0 from 1 / 2 on; n' is 0 at two places beyond, in the same half of a stretch or not.
+        for first, second in ((F(5, 8), F(7, 8)), (F(51, 100), F(52, 100)), (F(98, 100), F(99, 100)),
+                              (F(3, 4), F(4, 5)),
+                              (F(7, 10), F(7, 10) + F(1, 10 ** 30)), (F(8, 11), F(9, 11))):
+            n = plain_product(row(0, 1), plain_product(linear(first)[0], linear(second)[0]))
+            machine = (n, WILD)
+            half, between = F(1, 2) + F(1, 10 ** 6), (first + second) / 2
+            for low, high, wanted in ((half, F(1), True), (half, second, True), (first, F(1), True),
+                                      (first, second, True),
+                                      (half, between, True), (between, F(1), True), (between, between, False),
+                                      (half, first - F(1, 10 ** 9), False), (second + F(1, 10 ** 9), F(1), False),
+                                      (between, second - (second - between) / 3, False), (F(1, 2), F(1), False)):
+                self.check(machine, low, high, wanted)
+            self.assertIs(has_steady_helm(machine), False)
+
+    def test_where_m_comes_back(self):
+        # m' is below 0 at both ends of a stretch, but not throughout.
+        for first, second in ((F(5, 8), F(7, 8)), (F(51, 100), F(52, 100)), (F(97, 100), F(98, 100)),
+                              (F(7, 10), F(7, 10) + F(1, 10 ** 30)), (F(8, 11), F(9, 11))):
+            m = plain_product(WILD, plain_product(linear(first)[0], linear(second)[0]))
+            at = F(505, 1000)
+            machine = (plain_product(row(0, 1), linear(at)[0]), m)
+            for low, high, wanted in ((at, F(1), False), (at, second, False), (at, first, False), (at, at, True),
+                                      (at, first - F(1, 10 ** 9), True), (F(501, 1000), F(1), False),
+                                      (at, (second + 1) / 2, False), (F(501, 1000), (at + first) / 2, True)):
+                self.check(machine, low, high, wanted)
+            self.assertIs(is_parting(machine, parting_stretch(machine)), True)
+
+    def test_zeros_that_are_nearly_real(self):
+        # n' comes near to 0 where m' is below 0, and is not 0 there.
+        for at in (F(3, 4), F(7, 10), F(9, 11), F(53, 100)):
+            for near in (F(1, 100), F(1, 10 ** 12), F(1, 10 ** 80)):
+                nearly = plain_product(row(0, 1), row(at * at + near, -2 * at, 1))
+                machine = (nearly, WILD)
+                self.assertIs(has_steady_helm(machine), True)
+                self.check(machine, at, at, False)
+                self.check(machine, F(501, 1000), F(1), False)
+                # With real zeros there it is.
+                machine = (plain_product(row(0, 1), row(at * at - near ** 2, -2 * at, 1)), WILD)
+                self.assertIs(has_steady_helm(machine), False)
+                self.check(machine, F(501, 1000), F(1), True)
+                self.check(machine, at, at, False)
+                # And m' that comes near to 0 from below does not.
+                low = row(at * at + near, -2 * at, 1)
+                machine = (plain_product(row(0, 1), linear(F(505, 1000))[0]),
+                           plain_product(WILD, plain_product(low, row(1 / (at * at + near)))))
+                self.check(machine, F(501, 1000), F(1), True)
+
     def test_other_values(self):
         good = ((3, 4), ONE)
         self.assertIs(is_parting(ODD, good), True)
